@@ -1,0 +1,1 @@
+"""Hotpass: hot pieces passed from hand to hand and closed."""

@@ -1,0 +1,11 @@
+"""Whether a thing that is handed in is of the kind that the document asks for."""
+
+
+def is_number(thing, least, most):
+    # Python takes True and False for 1 and 0; the document doesn't.
+    return isinstance(thing, int) and not isinstance(thing, bool) and least <= thing <= most
+
+
+def is_row(thing, least, most):
+    """Whether it is a list or tuple of least to most things."""
+    return isinstance(thing, (list, tuple)) and least <= len(thing) <= most

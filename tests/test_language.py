@@ -1,0 +1,158 @@
+"""The package keeps to the written subset of Python, as far as a look at its trees can tell."""
+
+import ast
+import builtins
+import pathlib
+import re
+import unittest
+
+PACKAGE = pathlib.Path(__file__).resolve().parent.parent / "hotpass"
+BUILTINS = set("""len range enumerate zip min max sum abs sorted reversed int str bool list tuple dict set
+    isinstance ord repr any all divmod iter next Exception ValueError TypeError KeyError IndexError LookupError
+    ZeroDivisionError ArithmeticError OverflowError RuntimeError NotImplementedError property staticmethod
+    classmethod super""".split())
+METHODS = set("""append clear copy count endswith extend find get index insert isalnum isalpha isdigit islower
+    isspace isupper items join keys ljust lower lstrip partition pop remove replace reverse rfind rjust
+    rpartition rsplit rstrip setdefault split splitlines startswith strip update upper values zfill bit_length
+    add discard __init__""".split())
+DUNDERS = set("__init__ __eq__ __repr__ __str__ __len__".split())
+BARRED_WORDS = re.compile(r"\b(type|typing|typing_extensions|enum|Enum|IntEnum|StrEnum|Flag|IntFlag|Generic|Protocol"
+                          r"|ABC|ABCMeta|namedtuple|NamedTuple|TypedDict|TYPE_CHECKING|abstractmethod)\b"
+                          r"|dataclass|overload|contextmanager")
+BARRED_NAMES = set("""register mro elements open input version_info with_traceback add_note attrgetter breakpoint
+    builtins compile copyright credits delattr dir eval exec exit gc getattr globals hasattr help id importlib
+    license locals methodcaller os quit setattr sys type vars""".split())
+BARRED_NODES = (ast.Global, ast.AsyncFunctionDef, ast.AsyncFor, ast.AsyncWith, ast.Await, ast.Import, ast.Div)
+EAGER = ("any", "all", "min", "max", "sum", "sorted")
+
+
+def files():
+    return sorted(PACKAGE.glob("*.py"))
+
+
+def trees():
+    return [(path, ast.parse(path.read_text())) for path in files()]
+
+
+def nodes(kind):
+    return [(f"{path.name}:{getattr(node, 'lineno', 0)}", node)
+            for path, tree in trees() for node in ast.walk(tree) if isinstance(node, kind)]
+
+
+def own_methods():
+    return {row.name for _, node in nodes(ast.ClassDef) for row in node.body if isinstance(row, ast.FunctionDef)}
+
+
+def stored_attributes():
+    return {node.attr for _, node in nodes(ast.Attribute) if isinstance(node.ctx, ast.Store)}
+
+
+class LanguageTest(unittest.TestCase):
+    def test_folder(self):
+        for path in PACKAGE.iterdir():
+            if path.name != "__pycache__":
+                self.assertRegex(path.name, r"^[a-z_][a-z0-9_]*\.py$")
+        self.assertLessEqual(len(files()), 100)
+
+    def test_characters_and_sizes(self):
+        for path in files():
+            text = path.read_text()
+            self.assertRegex(text, r"\A[\n -~]*\Z", path.name)
+            self.assertLessEqual(text.count("\n"), 400, path.name)
+            self.assertLessEqual(max([len(row) for row in text.split("\n")]), 120, path.name)
+            self.assertIsNone(BARRED_WORDS.search(text), path.name)
+        for where, node in nodes(ast.FunctionDef):
+            self.assertLessEqual(node.end_lineno - node.lineno + 1, 40, where)
+
+    def test_imports(self):
+        above = {}
+        for path, tree in trees():
+            found = [node for node in ast.walk(tree) if isinstance(node, ast.ImportFrom)]
+            above[path.stem] = [node.module.split(".")[-1] for node in found]
+            for node in found:
+                self.assertEqual(node.level, 0)
+                self.assertRegex(node.module, r"^hotpass\.[a-z]+$")
+                source = ast.parse((PACKAGE / (node.module.split(".")[1] + ".py")).read_text())
+                defined = {row.name for row in source.body if isinstance(row, (ast.FunctionDef, ast.ClassDef))}
+                defined |= {row.targets[0].id for row in source.body if isinstance(row, ast.Assign)}
+                self.assertLessEqual({name.name for name in node.names}, defined, path.name)
+        while above:
+            free = [name for name in above if not set(above[name]) & set(above)]
+            self.assertTrue(free, f"files import from each other: {sorted(above)}")
+            for name in free:
+                del above[name]
+
+    def test_module_level(self):
+        for path, tree in trees():
+            self.assertIsNotNone(ast.get_docstring(tree), path.name)
+            bound = []
+            for row in tree.body[1:]:
+                self.assertIsInstance(row, (ast.ImportFrom, ast.FunctionDef, ast.ClassDef, ast.Assign), path.name)
+                if isinstance(row, ast.Assign):
+                    self.assertIsInstance(row.targets[0], ast.Name)
+                    bound += [row.targets[0].id]
+                elif isinstance(row, ast.ImportFrom):
+                    bound += [name.asname or name.name for name in row.names]
+                else:
+                    bound += [row.name]
+            self.assertEqual(len(bound), len(set(bound)), path.name)
+
+    def test_barred_nodes(self):
+        for where, node in nodes(BARRED_NODES):
+            self.fail(f"{where}: {node}")
+        for where, node in nodes(ast.Constant):
+            self.assertNotIsInstance(node.value, (float, complex), where)
+            if isinstance(node.value, str):
+                self.assertNotIn("%", node.value, where)
+        for where, node in nodes(ast.BinOp):
+            if isinstance(node.op, ast.Pow):
+                self.assertIsInstance(node.right, ast.Constant, where)
+
+    def test_is_beside_none_true_false_alone(self):
+        for where, node in nodes(ast.Compare):
+            for sign, right in zip(node.ops, node.comparators):
+                if isinstance(sign, (ast.Is, ast.IsNot)):
+                    self.assertIsInstance(right, ast.Constant, where)
+                    self.assertIn(right.value, (None, True, False), where)
+
+    def test_names(self):
+        named = [(where, node.id) for where, node in nodes(ast.Name) if isinstance(node.ctx, ast.Store)]
+        named += [(where, node.arg) for where, node in nodes(ast.arg)]
+        named += [(where, node.name) for where, node in nodes((ast.FunctionDef, ast.ClassDef))
+                  if not node.name.startswith("__")]
+        for where, name in named:
+            self.assertRegex(name, r"^[A-Za-z][A-Za-z0-9_]*$", where)
+            self.assertNotIn(name, BARRED_NAMES, where)
+            self.assertFalse(hasattr(builtins, name), f"{where}: {name}")
+
+    def test_builtins(self):
+        for where, node in nodes(ast.Name):
+            if isinstance(node.ctx, ast.Load) and hasattr(builtins, node.id):
+                self.assertIn(node.id, BUILTINS, where)
+
+    def test_methods(self):
+        own = own_methods()
+        self.assertEqual(own & stored_attributes(), set())
+        for where, node in nodes(ast.Call):
+            if isinstance(node.func, ast.Attribute):
+                self.assertIn(node.func.attr, METHODS | own, where)
+        for name in own:
+            if name.startswith("__"):
+                self.assertIn(name, DUNDERS)
+
+    def test_lists_instead_of_generators(self):
+        for where, node in nodes(ast.Call):
+            if isinstance(node.func, ast.Name) and node.func.id in EAGER:
+                for arg in node.args:
+                    self.assertNotIsInstance(arg, ast.GeneratorExp, where)
+
+    def test_returns_of_len(self):
+        for where, node in nodes(ast.FunctionDef):
+            if node.name == "__len__":
+                for row in ast.walk(node):
+                    if isinstance(row, ast.Return):
+                        self.assertEqual(row.value.func.id, "len", where)
+
+
+if __name__ == "__main__":
+    unittest.main()
