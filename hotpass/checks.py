@@ -4,9 +4,12 @@ LETTERS = "abcdefghijklmnopqrstuvwxyz"
 MOST_LETTERS = 8
 
 
-def is_number(thing, least, most):
+def is_number(thing, least, most=None):
+    """Whether it is a number from least to most, from least on where most is None."""
     # Python takes True and False for 1 and 0; the document doesn't.
-    return isinstance(thing, int) and not isinstance(thing, bool) and least <= thing <= most
+    if not isinstance(thing, int) or isinstance(thing, bool):
+        return False
+    return least <= thing and (most is None or thing <= most)
 
 
 def is_row(thing, least, most):

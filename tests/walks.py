@@ -84,6 +84,8 @@ def unlike_by_one(thing):
         yield kind([*thing, None])
     elif isinstance(thing, str):
         yield from (thing + " ", thing.upper(), thing[1:], "")
+    elif thing is None:
+        yield from (0, 1, True, False, 10 ** 5000)
     else:
         yield from (thing + 1, thing - 1, str(thing), True, False, 10 ** 5000)
 
@@ -95,3 +97,64 @@ def is_just(one, other):
     if isinstance(one, (list, tuple)):
         return len(one) == len(other) and all(is_just(a, b) for a, b in zip(one, other))
     return one == other
+
+
+def walk_turns(wishes, mouth):
+    """What turns tells, found by looking at each beat at which pieces are hot."""
+    drawn = [None] * len(wishes)
+    for beat in range(max([last for _, last in wishes], default=-1) + 1):
+        hot = [(last, number) for number, (first, last) in enumerate(wishes)
+               if first <= beat <= last and drawn[number] is None]
+        for _, number in sorted(hot)[:mouth]:
+            drawn[number] = beat
+    return drawn
+
+
+def asked_up_to(shares, end):
+    """Of each share the pieces (first, last, share, i) that are asked ahead of end, rising."""
+    pieces = []
+    for share, (beats, many, first, wide) in enumerate(shares):
+        number = 0
+        while (ask := first + number * beats // many) < end:
+            pieces.append((ask, ask + wide, share, number))
+            number += 1
+    return sorted(pieces)
+
+
+def walk_shares(shares, mouth, end):
+    """What for_ever tells, as far as it can be seen ahead of a beat."""
+    coming = asked_up_to(shares, end)[::-1]
+    waiting = []
+    wait = 0
+    for beat in range(end):
+        while coming and coming[-1][0] <= beat:
+            ask, last, share, number = coming.pop()
+            waiting.append((last, share, number, ask))
+        waiting.sort()
+        wait = max([wait] + [beat - ask for _, _, _, ask in waiting[:mouth]])
+        waiting = waiting[mouth:]
+        if waiting and waiting[0][0] <= beat:
+            return ("burnt", waiting[0][1], waiting[0][2])
+    return ("kept", wait)
+
+
+def some_wishes(many, seed, most=12):
+    """So many lists of wishes, the same for the same seed, that crowd now and then."""
+    chance = random.Random(seed)
+    for _ in range(many):
+        span = chance.choice((0, 3, 8, 20))
+        firsts = [chance.randint(0, span) for _ in range(chance.randint(0, most))]
+        yield [(first, first + chance.choice((0, 0, 1, 2, 5, 12))) for first in firsts]
+
+
+def some_shares(many, seed):
+    """So many pairs of shares and a mouth, within the bounds of stage 6."""
+    chance = random.Random(seed)
+    for _ in range(many):
+        shares = []
+        for _ in range(chance.randint(1, 6)):
+            pieces = chance.choice((1, 1, 1, 2, 3, chance.randint(1, 6)))
+            first = chance.choice((0, 0, chance.randint(0, 40)))
+            wide = chance.choice((0, 1, 3, 8, 20, chance.randint(0, 20)))
+            shares.append((chance.randint(1, 6), pieces, first, wide))
+        yield shares, chance.randint(1, 4)
