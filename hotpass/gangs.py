@@ -4,6 +4,7 @@ from hotpass.checks import is_name, is_number, is_row
 from hotpass.errors import BadGang, NoKind
 
 KINDS = 4
+HEATER = 0
 HOLDER = 2
 CLOSER = 3
 MOST_TAKE = 10 ** 6
@@ -21,10 +22,14 @@ def common_divisor(one, other):
     return one
 
 
-def replaced(row, kind, item):
-    """A list like the row but for its item of that kind."""
+def check_kind(kind):
     if not is_number(kind, 0, KINDS - 1):
         raise NoKind(kind)
+
+
+def replaced(row, kind, item):
+    """A list like the row but for its item of that kind."""
+    check_kind(kind)
     items = list(row)
     items[kind] = item
     return items
