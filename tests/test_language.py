@@ -24,6 +24,16 @@ BARRED_NAMES = set("""register mro elements open input version_info with_traceba
     license locals methodcaller os quit setattr sys type vars""".split())
 BARRED_NODES = (ast.Global, ast.AsyncFunctionDef, ast.AsyncFor, ast.AsyncWith, ast.Await, ast.Import, ast.Div)
 EAGER = ("any", "all", "min", "max", "sum", "sorted")
+# Which keywords a builtin may be called with.
+KEYWORDS = {"sorted": {"key", "reverse"}, "min": {"key", "default"}, "max": {"key", "default"}, "sum": {"start"},
+            "enumerate": {"start"}, "zip": {"strict"}}
+# What gives no list is gone through where it stands.
+LAZY = ("zip", "enumerate", "reversed", "range")
+GOES_THROUGH = ("list", "tuple", "dict", "sorted", "sum", "any", "all", "enumerate", "zip", "min", "max", "len", "reversed")
+INTERFACE = {"Metal": "heat life cools_to __eq__ __str__ __repr__",
+             "Gang": "taking handed through pace binds __len__ __eq__ __str__ __repr__",
+             "Yard": """joins put slow miss rest paced manned beat go leap now names where counts holding takes_of
+                 __len__ like"""}
 
 
 def files():
@@ -37,6 +47,27 @@ def trees():
 def nodes(kind):
     return [(f"{path.name}:{getattr(node, 'lineno', 0)}", node)
             for path, tree in trees() for node in ast.walk(tree) if isinstance(node, kind)]
+
+
+def is_call_of(node, names):
+    """Whether it is a call of a function of one of these names."""
+    return isinstance(node, ast.Call) and isinstance(node.func, ast.Name) and node.func.id in names
+
+
+def local_names(function):
+    """The parameters and variables of a function."""
+    found = [node.arg for node in ast.walk(function) if isinstance(node, ast.arg)]
+    return found + [node.id for node in ast.walk(function)
+                    if isinstance(node, ast.Name) and isinstance(node.ctx, ast.Store)]
+
+
+def gone_through_at_once():
+    """The expressions that a loop, a comprehension or a builtin goes through where they stand."""
+    found = [node.iter for _, node in nodes((ast.For, ast.comprehension))]
+    for _, node in nodes(ast.Call):
+        if is_call_of(node, GOES_THROUGH) or (isinstance(node.func, ast.Attribute) and node.func.attr == "join"):
+            found += node.args
+    return [(node.lineno, node.col_offset, ast.dump(node)) for node in found]
 
 
 def own_methods():
@@ -139,6 +170,54 @@ class LanguageTest(unittest.TestCase):
         for name in own:
             if name.startswith("__"):
                 self.assertIn(name, DUNDERS)
+
+    def test_attributes_that_are_read_are_assigned(self):
+        known = stored_attributes() | own_methods() | METHODS
+        for where, node in nodes(ast.Attribute):
+            self.assertIn(node.attr, known, where)
+            self.assertFalse(node.attr.startswith("_") and node.attr not in DUNDERS, where)
+
+    def test_methods_of_the_interface_stand_in_their_class(self):
+        classes = {node.name: node for _, node in nodes(ast.ClassDef)}
+        for name, methods in INTERFACE.items():
+            found = [row.name for row in classes[name].body if isinstance(row, ast.FunctionDef)]
+            self.assertLessEqual(set(methods.split()), set(found), name)
+            self.assertEqual(len(found), len(set(found)), name)
+
+    def test_no_local_is_called_as_a_class_or_an_import(self):
+        for path, tree in trees():
+            taken = {name.asname or name.name for row in tree.body if isinstance(row, ast.ImportFrom)
+                     for name in row.names}
+            taken |= {row.name for row in tree.body if isinstance(row, ast.ClassDef)}
+            for node in ast.walk(tree):
+                if isinstance(node, ast.FunctionDef):
+                    self.assertEqual(set(local_names(node)) & taken, set(), f"{path.name}:{node.name}")
+
+    def test_keywords_of_builtins(self):
+        for where, node in nodes(ast.Call):
+            if isinstance(node.func, ast.Name) and hasattr(builtins, node.func.id):
+                self.assertLessEqual({word.arg for word in node.keywords}, KEYWORDS.get(node.func.id, set()), where)
+            if isinstance(node.func, ast.Attribute) and node.func.attr in METHODS - own_methods():
+                self.assertEqual(node.keywords, [], where)
+
+    def test_ranges_and_their_like_are_gone_through_at_once(self):
+        at_once = gone_through_at_once()
+        for where, node in nodes(ast.Call):
+            of_a_dict = isinstance(node.func, ast.Attribute) and node.func.attr in ("items", "keys", "values")
+            if is_call_of(node, LAZY) or of_a_dict:
+                self.assertIn((node.lineno, node.col_offset, ast.dump(node)), at_once, where)
+
+    def test_stored_sets_are_bound_once_and_not_gone_through(self):
+        for where, function in nodes(ast.FunctionDef):
+            stored = [row.targets[0].id for row in ast.walk(function) if isinstance(row, ast.Assign)
+                      and (is_call_of(row.value, ("set",)) or isinstance(row.value, (ast.Set, ast.SetComp)))]
+            for name in stored:
+                self.assertEqual(local_names(function).count(name), 1, where)
+            for node in ast.walk(function):
+                if isinstance(node, (ast.For, ast.comprehension)) and isinstance(node.iter, ast.Name):
+                    self.assertNotIn(node.iter.id, stored, where)
+                if isinstance(node, ast.Return) and isinstance(node.value, ast.Name):
+                    self.assertNotIn(node.value.id, stored, where)
 
     def test_lists_instead_of_generators(self):
         for where, node in nodes(ast.Call):

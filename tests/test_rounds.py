@@ -1,6 +1,7 @@
 """Rounds of a shared fire [14]; of [1] (d)."""
 
 import copy
+import random
 import unittest
 
 from hotpass.rounds import round_of, shows_round
@@ -29,15 +30,17 @@ def is_written(shares, thing):
 
 
 def plainly_shows(shares, mouth, thing):
-    """What shows_round says: four rounds are written out, drawing by drawing."""
+    """What shows_round says: so many rounds are written out, drawing by drawing, that all rows meet that ever do."""
     if not is_written(shares, thing):
         return False
     begin, many, rows = thing
+    widest = max([wide for _, _, _, wide in shares])
+    turns = 4 + widest // many
     drawn = {}
     often = {}
     for beat, share, number in rows:
         beats, pieces, first, wide = shares[share]
-        for turn in range(4):
+        for turn in range(turns):
             piece = (share, number + turn * many // beats * pieces)
             at = beat + turn * many
             ask = first + piece[1] * beats // pieces
@@ -45,11 +48,21 @@ def plainly_shows(shares, mouth, thing):
                 return False
             drawn[piece] = at
             often[at] = often.get(at, 0) + 1
-    # A piece asked in the last of the four may be drawn behind them.
-    end = begin + 3 * many
+    # A piece that is asked later may be drawn behind the rounds that are written out.
+    end = begin + turns * many - widest
     asked = [(share, number) for ask, _, share, number in asked_up_to(shares, end) if ask >= begin]
-    known = set(drawn)
-    return max(often.values(), default=0) <= mouth and all([piece in known for piece in asked])
+    return max(often.values(), default=0) <= mouth and all([piece in drawn for piece in asked])
+
+
+def turned(shares, thing, by):
+    """The same drawings, told as a round that begins so many beats later, not more than many."""
+    begin, many, rows = thing
+    later = []
+    for beat, share, number in rows:
+        beats, pieces, _, _ = shares[share]
+        is_past = beat < begin + by
+        later.append((beat + many, share, number + many // beats * pieces) if is_past else (beat, share, number))
+    return (begin + by, many, sorted(later))
 
 
 class RoundOfTest(unittest.TestCase):
@@ -74,6 +87,15 @@ class RoundOfTest(unittest.TestCase):
             told = round_of(shares, mouth)
             if told is not None:
                 self.assertTrue(plainly_shows(shares, mouth, told), (shares, mouth, told))
+
+    def test_told_rounds_turned(self):
+        chance = random.Random(84)
+        for shares, mouth in some_shares(150, 84):
+            told = round_of(shares, mouth)
+            if told is not None:
+                later = turned(shares, told, chance.randint(1, told[1]))
+                self.assertIs(shows_round(shares, mouth, later), True, (shares, mouth, later))
+                self.assertTrue(plainly_shows(shares, mouth, later), (shares, mouth, later))
 
     def test_bounds(self):
         for shares, mouth in (([(6, 4, 40, 20)] * 6, 4), ([(beats, 1, 40, 20) for beats in range(1, 7)], 3),
@@ -118,6 +140,35 @@ class ShowsRoundTest(unittest.TestCase):
         # The piece asked at 4 must stand, not the one behind it.
         self.assertIs(shows_round([(1, 1, 0, 9)], 1, (4, 1, [(4, 0, 5)])), False)
         self.assertIs(shows_round([(1, 1, 0, 9)], 1, (4, 1, [(4, 0, 0)])), True)
+
+    def test_rows_that_meet_late(self):
+        # Piece 4 is drawn at 4, and again at 8 as the one that is four behind piece 0.
+        for thing in ((4, 1, [(4, 0, 0), (4, 0, 4)]), (9, 1, [(9, 0, 0), (9, 0, 9)]), (20, 1, [(20, 0, 11), (20, 0, 12)])):
+            self.assertIs(shows_round([(1, 1, 0, 9)], 2, thing), False, thing)
+            self.assertFalse(plainly_shows([(1, 1, 0, 9)], 2, thing))
+        # In the place of the second plan's piece, too: as many rows as are asked, but one of them twice.
+        self.assertIs(shows_round([(1, 2, 0, 9)], 2, (4, 1, [(4, 0, 2), (4, 0, 8)])), False)
+        self.assertIs(shows_round([(1, 2, 0, 9)], 2, (4, 1, [(4, 0, 2), (4, 0, 9)])), True)
+
+    def test_rows_of_other_pieces_and_beats(self):
+        chance = random.Random(85)
+        seen = set()
+        for shares, mouth in some_shares(600, 85):
+            told = round_of(shares, mouth)
+            if told is None or told[1] > 12:
+                continue
+            begin, many, rows = told
+            for _ in range(20):
+                others = list(rows)
+                for _ in range(chance.randint(1, 3)):
+                    beat, share, number = chance.choice(others)
+                    others.remove((beat, share, number))
+                    others.append((begin + chance.randrange(many), share, max(0, number + chance.randint(-9, 3))))
+                thing = (begin, many, sorted(others))
+                said = shows_round(shares, mouth, thing)
+                self.assertIs(said, plainly_shows(shares, mouth, thing), (shares, mouth, thing))
+                seen.add((said, thing[2] == rows))
+        self.assertEqual(seen, {(True, True), (True, False), (False, False)})
 
     def test_one_place_otherwise(self):
         for thing in ((0, 4, [(0, 0, 0), (1, 1, 0)]), (0, 4, [(0, 0, 0), (1, 1, 0), (2, 0, 1), (2, 0, 1)]),

@@ -493,6 +493,32 @@ class TellingTest(unittest.TestCase):
         self.assertEqual(all_of(yard), before)
         self.assertEqual(all_of(yard), before)
 
+    def test_happenings_are_the_asker_s_own(self):
+        yard, other = yard_of([ANN]), yard_of([ANN])
+        for one in (yard, other):
+            one.put("ann", 2)
+        for deed, args in (("leap", ()), ("go", (3,)), ("beat", ()), ("go", (0,)), ("go", (9,)), ("leap", ())):
+            told = getattr(yard, deed)(*args)
+            kept = list(told)
+            told.append("x")
+            told.reverse()
+            self.assertEqual(getattr(other, deed)(*args), kept)
+            self.assertEqual(all_of(yard), all_of(other))
+            self.assertIsNot(yard.go(0), yard.go(0))
+
+    def test_what_was_handed_in_isn_t_changed(self):
+        takes, hands = [2, 1, 1, 4], [1, 1, 1, 1]
+        gang, metal = Gang("ann", takes, hands), Metal(100, 90, [(2, 3), (1, 5)])
+        yard = yard_of([gang], metal, rounds=1)
+        yard.put("ann", 3)
+        yard.paced("ann", 0, 7)
+        yard.manned("ann", 3, 0)
+        yard.like().go(50)
+        yard.go(50)
+        self.assertEqual((takes, hands), ([2, 1, 1, 4], [1, 1, 1, 1]))
+        self.assertEqual(gang, ANN)
+        self.assertEqual(metal, Metal(100, 90, ((2, 3), (1, 5))))
+
     def test_names_of_arguments(self):
         yard = Yard(metal=EVER_HOT, soak=1, burn=5, mouth=2, rounds=1)
         yard.joins(gang=ANN)
