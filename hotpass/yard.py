@@ -99,18 +99,21 @@ class Yard:
         """Goes through so many beats; tells what happens in them."""
         end = self.at + beats
         told = []
-        due = self.next_due()
-        while due is not None and due < end:
-            self.at = due
-            told.extend(self.beat())
-            due = self.next_due()
+        found = self.leap_ahead_of(end)
+        while found:
+            told.extend(found)
+            found = self.leap_ahead_of(end)
         self.at = end
         return told
 
     def leap(self):
         """Goes on to the next beat in which anything happens, and through it; tells what happens."""
+        return self.leap_ahead_of(None)
+
+    def leap_ahead_of(self, end):
+        """Leaps, but stays where that would lead to end or behind it; where end is None, it leaps anyway."""
         due = self.next_due()
-        if due is None:
+        if due is None or (end is not None and due >= end):
             return []
         self.at = due
         return self.beat()

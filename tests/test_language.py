@@ -33,7 +33,16 @@ GOES_THROUGH = ("list", "tuple", "dict", "sorted", "sum", "any", "all", "enumera
 INTERFACE = {"Metal": "heat life cools_to __eq__ __str__ __repr__",
              "Gang": "taking handed through pace binds __len__ __eq__ __str__ __repr__",
              "Yard": """joins put slow miss rest paced manned beat go leap now names where counts holding takes_of
-                 __len__ like"""}
+                 __len__ like""",
+             "Book": "tell untell yard_at happened voids standing calls known like"}
+FUNCTIONS = {"plans": "least_end asked_at asks_of keeps", "passing": "passed held shows_passed",
+             "slow": "late_by made_up first_cold", "turns": "turns least_mouth", "turnpapers": "burnt_paper shows_turns",
+             "shares": "for_ever", "rounds": "round_of shows_round", "sheets": "lack_of follows",
+             "sheetpapers": "places_for ring_for shows_places shows_ring",
+             "texts": "gang_text gang_in metal_text metal_in", "desk": "answers",
+             "metals": "Metal", "gangs": "Gang", "yard": "Yard", "book": "Book"}
+# Of Python's own errors these alone may be caught around anything.
+CAUGHT_FREELY = {"KeyError", "ZeroDivisionError", "StopIteration"}
 
 
 def files():
@@ -184,6 +193,68 @@ class LanguageTest(unittest.TestCase):
             self.assertLessEqual(set(methods.split()), set(found), name)
             self.assertEqual(len(found), len(set(found)), name)
 
+    def test_names_of_the_interface_stand_in_their_files(self):
+        for name, defined in FUNCTIONS.items():
+            tree = ast.parse((PACKAGE / f"{name}.py").read_text())
+            found = [row.name for row in tree.body if isinstance(row, (ast.FunctionDef, ast.ClassDef))]
+            self.assertLessEqual(set(defined.split()), set(found), name)
+
+    def test_values_at_module_level_are_plain(self):
+        for path, tree in trees():
+            defined = [row.name for row in tree.body if isinstance(row, ast.FunctionDef)]
+            for row in tree.body:
+                if not isinstance(row, ast.Assign):
+                    continue
+                for node in ast.walk(row.value):
+                    self.assertNotIsInstance(node, (ast.Call, ast.ListComp, ast.Lambda, ast.Set, ast.Attribute), path.name)
+                    if isinstance(node, ast.Name):
+                        self.assertIn(node.id, defined, path.name)
+                    if isinstance(node, (ast.List, ast.Dict)):
+                        self.assertIs(node, row.value, path.name)
+
+    def test_errors_that_are_caught(self):
+        own = {node.name for _, node in nodes(ast.ClassDef)}
+        for where, node in nodes(ast.ExceptHandler):
+            self.assertIsInstance(node.type, ast.Name, where)
+            self.assertIn(node.type.id, own | CAUGHT_FREELY, where)
+
+    def test_errors_are_made_where_they_are_raised(self):
+        own = {node.name for _, node in nodes(ast.ClassDef)}
+        for where, node in nodes(ast.Raise):
+            self.assertIsInstance(node.exc, ast.Call, where)
+            self.assertIn(node.exc.func.id, own, where)
+            self.assertTrue(node.cause is None or node.cause.value is None, where)
+
+    def test_classes_are_called_or_stand_where_a_class_may(self):
+        own = {node.name for _, node in nodes(ast.ClassDef)}
+        for path, tree in trees():
+            allowed = []
+            for node in ast.walk(tree):
+                if isinstance(node, ast.Call):
+                    allowed += [node.func] + (node.args[1:] if is_call_of(node, ("isinstance",)) else [])
+                elif isinstance(node, ast.ClassDef):
+                    allowed += node.bases
+                elif isinstance(node, ast.ExceptHandler):
+                    allowed.append(node.type)
+            for node in ast.walk(tree):
+                if isinstance(node, ast.Name) and node.id in own:
+                    self.assertTrue(any(node is other for other in allowed), f"{path.name}:{node.lineno}")
+
+    def test_what_stands_behind_a_star_in_a_call(self):
+        for where, node in nodes(ast.Call):
+            for arg in node.args:
+                if isinstance(arg, ast.Starred):
+                    self.assertIsInstance(arg.value, ast.Name, where)
+                    self.assertEqual(node.keywords, [], where)
+
+    def test_no_generators_and_no_annotations(self):
+        for where, node in nodes((ast.Yield, ast.YieldFrom, ast.GeneratorExp, ast.AnnAssign)):
+            self.fail(f"{where}: {node}")
+        for where, node in nodes(ast.FunctionDef):
+            self.assertEqual(node.decorator_list, [], where)
+            self.assertIsNone(node.returns, where)
+            self.assertEqual(node.args.posonlyargs, [], where)
+
     def test_no_local_is_called_as_a_class_or_an_import(self):
         for path, tree in trees():
             taken = {name.asname or name.name for row in tree.body if isinstance(row, ast.ImportFrom)
@@ -194,10 +265,11 @@ class LanguageTest(unittest.TestCase):
                     self.assertEqual(set(local_names(node)) & taken, set(), f"{path.name}:{node.name}")
 
     def test_keywords_of_builtins(self):
+        of_builtins = METHODS - own_methods()
         for where, node in nodes(ast.Call):
             if isinstance(node.func, ast.Name) and hasattr(builtins, node.func.id):
                 self.assertLessEqual({word.arg for word in node.keywords}, KEYWORDS.get(node.func.id, set()), where)
-            if isinstance(node.func, ast.Attribute) and node.func.attr in METHODS - own_methods():
+            if isinstance(node.func, ast.Attribute) and node.func.attr in of_builtins:
                 self.assertEqual(node.keywords, [], where)
 
     def test_ranges_and_their_like_are_gone_through_at_once(self):

@@ -183,6 +183,8 @@ class ShowsTest(unittest.TestCase):
         # The very line must be among them.
         self.assertIs(shows_ring(MIXED, 6, [(3, 1), (4, 1), (5, -1)]), False)
         self.assertIs(shows_ring(MIXED, 6, [(6, -1)]), True)
+        for sign in (0, 2, -2, True, False, None):
+            self.assertIs(shows_ring(MIXED, 6, [(6, sign)]), False)
 
     def test_true_for_a_line(self):
         sheet = ([("a", "b", None), ("b", "a", None)], [("a", 0), ("b", 0)])
